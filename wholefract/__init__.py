@@ -1,0 +1,1 @@
+"""Wholefract: fractions that reckon."""
