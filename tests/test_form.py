@@ -22,6 +22,7 @@ WORDS = re.compile(r"\b(type|typing|typing_extensions|enum|Enum|IntEnum|StrEnum|
 UNUSED = set("""register mro elements open input version_info with_traceback add_note format format_map
     attrgetter breakpoint builtins compile copyright credits delattr dir eval exec exit gc getattr globals hasattr help
     id importlib license locals methodcaller os quit setattr super type vars sys""".split())
+WALKERS = ("list", "tuple", "dict", "sorted", "sum", "any", "all", "enumerate", "zip")
 NODES = set("""Module Expr Constant Name Load Store Attribute Subscript Slice Tuple List Dict Set Call keyword
     ImportFrom alias FunctionDef Lambda arguments arg ClassDef Return Assign AugAssign If While For Break Continue Pass
     Raise Try ExceptHandler BoolOp And Or UnaryOp Not USub UAdd Invert BinOp Add Sub Mult FloorDiv Mod Pow LShift RShift
@@ -48,6 +49,31 @@ def bound_names(node):
         return [node.name]
     if isinstance(node, ast.arg):
         return [node.arg]
+    return []
+
+
+def drawn_from(tree):
+    return [node.module.partition(".")[2] for node in ast.walk(tree) if isinstance(node, ast.ImportFrom)]
+
+
+def is_walk(node):
+    if not isinstance(node, ast.Call):
+        return False
+    if isinstance(node.func, ast.Name):
+        return node.func.id in ("zip", "enumerate", "reversed", "range")
+    return isinstance(node.func, ast.Attribute) and node.func.attr in ("items", "keys", "values")
+
+
+def walked_in(node):
+    """The parts of a node where something may be walked on the spot."""
+    if isinstance(node, (ast.For, ast.comprehension)):
+        return [node.iter]
+    if isinstance(node, ast.Call) and isinstance(node.func, ast.Name) and node.func.id in WALKERS:
+        return node.args if node.func.id == "zip" else node.args[:1]
+    if isinstance(node, ast.Call) and isinstance(node.func, ast.Name) and node.func.id in ("min", "max"):
+        return node.args if len(node.args) == 1 else []
+    if isinstance(node, ast.Call) and isinstance(node.func, ast.Attribute) and node.func.attr == "join":
+        return node.args if isinstance(node.func.value, ast.Constant) else []
     return []
 
 
@@ -82,6 +108,30 @@ class Form(unittest.TestCase):
                 self.assertEqual((package, node.level), ("wholefract", 0), where)
                 for alias in node.names:
                     self.assertIn(alias.name, defined[module], where)
+
+    def test_no_circle_of_files(self):
+        drawn = {name[:-3]: drawn_from(tree) for name, _, tree in modules()}
+        while drawn:
+            ends = [name for name in drawn if not set(drawn[name]) & set(drawn)]
+            self.assertNotEqual(ends, [], drawn)
+            drawn = {name: drawn[name] for name in drawn if name not in ends}
+
+    def test_no_local_is_called_like_an_import_or_class(self):
+        for name, _, tree in modules():
+            taken = {alias.name for node in tree.body if isinstance(node, ast.ImportFrom) for alias in node.names}
+            taken |= {node.name for node in tree.body if isinstance(node, ast.ClassDef)}
+            for function in ast.walk(tree):
+                if isinstance(function, ast.FunctionDef):
+                    local = {bound for part in function.body + [function.args] for node in ast.walk(part)
+                             for bound in bound_names(node)}
+                    self.assertEqual(local & taken, set(), (name, function.name))
+
+    def test_walked_on_the_spot(self):
+        for name, _, tree in modules():
+            allowed = [part for node in ast.walk(tree) for part in walked_in(node)]
+            for node in ast.walk(tree):
+                if is_walk(node):
+                    self.assertIn(node, allowed, (name, node.lineno))
 
     def test_names(self):
         for where, node in all_nodes():

@@ -1,8 +1,16 @@
-"""Things of every kind for the tests, and how a refusal is asked for."""
+"""Things of every kind for the tests, how a refusal is asked for, and steps gone by the numbers themselves."""
 
 import copy
+import random
 
 from wholefract.errors import FractError
+
+TEN = (2, 3, 5, 7, 11, 13, 17, 19, 23, 29)
+ADDING = ((3, 2),)
+MULTIPLYING = ((455, 33), (11, 13), (1, 11), (3, 7), (11, 2), (1, 3))
+PRIME_TELLING = ((17, 91), (78, 85), (19, 51), (23, 38), (29, 33), (77, 29), (95, 23), (77, 19), (1, 17), (11, 13),
+                 (13, 11), (15, 2), (1, 7), (55, 1))
+ONE = (0,) * 10
 
 
 def nested(kind, depth):
@@ -64,3 +72,84 @@ def refusal_of(call, *handed):
     if classes[0] is not classes[1]:
         raise AssertionError("the same question had two answers")
     return classes[0]
+
+
+def refused_with(call, *handed):
+    """The refusal itself, asked twice; both are of one class and, where they have steps, of as many."""
+    told = []
+    for _ in range(2):
+        try:
+            call(*handed)
+        except FractError as refusal:
+            told.append(refusal)
+    if len(told) != 2:
+        raise AssertionError("nothing was refused")
+    if told[0].__class__ is not told[1].__class__ or vars(told[0]) != vars(told[1]):
+        raise AssertionError("the same question was refused in two ways")
+    return told[0]
+
+
+def with_powers(**often):
+    """Powers by their primes: with_powers(p2=3, p7=1) is 56."""
+    return tuple(often.get(f"p{prime}", 0) for prime in TEN)
+
+
+def product(powers):
+    number = 1
+    for prime, power in zip(TEN, powers):
+        number *= prime ** power
+    return number
+
+
+def factored(number):
+    powers = []
+    for prime in TEN:
+        powers.append(0)
+        while number % prime == 0:
+            number //= prime
+            powers[-1] += 1
+    return tuple(powers)
+
+
+def first_by_number(program, number):
+    for place, (top, bottom) in enumerate(program):
+        if number * top % bottom == 0:
+            return place
+    return None
+
+
+def walk(program, powers, many):
+    """All powers from these on, by at most so many steps, and the fractions used: number times fraction, whole."""
+    number = product(powers)
+    reached, used = [powers], []
+    for _ in range(many):
+        place = first_by_number(program, number)
+        if place is None:
+            break
+        number = number * program[place][0] // program[place][1]
+        used.append(place)
+        reached.append(factored(number))
+    return reached, used
+
+
+def small_programs(many, primes=3, seed=7):
+    """Programs of few primes, so that their fractions get in each other's way; the same ones each time."""
+    chance = random.Random(seed)
+    for _ in range(many):
+        program = []
+        for _ in range(chance.randint(1, 6)):
+            top = bottom = 1
+            for prime in TEN[:primes]:
+                often = chance.choice((0, 0, 0, 1, 1, 2, 3))
+                if chance.random() < 0.5:
+                    top *= prime ** often
+                else:
+                    bottom *= prime ** often
+            program.append((top, bottom))
+        yield tuple(program)
+
+
+def small_powers(many, primes=3, greatest=9, seed=11):
+    chance = random.Random(seed)
+    for _ in range(many):
+        yield tuple(chance.randint(0, greatest) for _ in range(primes)) + (0,) * (10 - primes)
