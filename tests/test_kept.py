@@ -3,21 +3,13 @@ import math
 import random
 import unittest
 
-from things import (ADDING, MULTIPLYING, ONE, PRIME_TELLING, TEN, factored, of_every_kind, small_powers,
-                    small_programs, told_twice, walk, with_powers)
+from things import (ADDING, ALL_GO, EXCHANGING, MULTIPLYING, ONE, PRIME_TELLING, SIXTEEN, TEN, by_hand, changes_of,
+                    factored, of_every_kind, small_powers, small_programs, some_programs, told_twice, walk,
+                    with_powers)
 from wholefract.kept import base, is_kept, parted_by, sum_by
 from wholefract.steps import leap
 
 UNITS = [factored(prime) for prime in TEN]
-# Each prime alone goes away, so only the row of noughts is kept.
-ALL_GO = tuple((1, prime) for prime in TEN)
-# 2 for 3, 9 for 5, 7 for 8, and 11 for 13: 17 and beyond go into nothing.
-EXCHANGING = ((3, 2), (5, 9), (8, 7), (13, 11))
-SIXTEEN = PRIME_TELLING + ((1, 1), (3, 2))
-
-
-def changes_of(program):
-    return [[top - bottom for top, bottom in zip(factored(one), factored(other))] for one, other in program]
 
 
 def independent(rows):
@@ -30,28 +22,6 @@ def independent(rows):
             rows.remove(leading)
             rows = [[a - b * row[place] / leading[place] for a, b in zip(row, leading)] for row in rows]
     return many
-
-
-def by_hand(row, powers):
-    total = 0
-    for place in range(10):
-        total += row[place] * powers[place]
-    return total
-
-
-def some_programs():
-    chance = random.Random(89)
-    yield from small_programs(60)
-    yield from small_programs(120, 10, 97)
-    yield from (ADDING, MULTIPLYING, PRIME_TELLING, EXCHANGING, ALL_GO, SIXTEEN, ((1, 1),), ((6, 1),))
-    for many in (1, 2, 3, 5, 8, 9, 16):
-        for _ in range(8):
-            program = []
-            while len(program) < many:
-                top, bottom = (math.prod(chance.choices(TEN, k=chance.randint(0, 8))) for _ in range(2))
-                if math.gcd(top, bottom) == 1 and max(top, bottom) <= 10 ** 12:
-                    program.append((top, bottom))
-            yield tuple(program)
 
 
 class IsKept(unittest.TestCase):

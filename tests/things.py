@@ -1,6 +1,7 @@
 """Things of every kind for the tests, how a refusal is asked for, and steps gone by the numbers themselves."""
 
 import copy
+import math
 import random
 
 from wholefract.errors import FractError
@@ -11,6 +12,11 @@ MULTIPLYING = ((455, 33), (11, 13), (1, 11), (3, 7), (11, 2), (1, 3))
 PRIME_TELLING = ((17, 91), (78, 85), (19, 51), (23, 38), (29, 33), (77, 29), (95, 23), (77, 19), (1, 17), (11, 13),
                  (13, 11), (15, 2), (1, 7), (55, 1))
 ONE = (0,) * 10
+# Each prime alone goes away, so only the row of noughts is kept.
+ALL_GO = tuple((1, prime) for prime in TEN)
+# 2 for 3, 9 for 5, 7 for 8, and 11 for 13: 17 and beyond go into nothing.
+EXCHANGING = ((3, 2), (5, 9), (8, 7), (13, 11))
+SIXTEEN = PRIME_TELLING + ((1, 1), (3, 2))
 
 
 def nested(kind, depth):
@@ -153,3 +159,29 @@ def small_powers(many, primes=3, greatest=9, seed=11):
     chance = random.Random(seed)
     for _ in range(many):
         yield tuple(chance.randint(0, greatest) for _ in range(primes)) + (0,) * (10 - primes)
+
+
+def changes_of(program):
+    return [[top - bottom for top, bottom in zip(factored(one), factored(other))] for one, other in program]
+
+
+def by_hand(row, powers):
+    total = 0
+    for place in range(10):
+        total += row[place] * powers[place]
+    return total
+
+
+def some_programs():
+    chance = random.Random(89)
+    yield from small_programs(60)
+    yield from small_programs(120, 10, 97)
+    yield from (ADDING, MULTIPLYING, PRIME_TELLING, EXCHANGING, ALL_GO, SIXTEEN, ((1, 1),), ((6, 1),))
+    for many in (1, 2, 3, 5, 8, 9, 16):
+        for _ in range(8):
+            program = []
+            while len(program) < many:
+                top, bottom = (math.prod(chance.choices(TEN, k=chance.randint(0, 8))) for _ in range(2))
+                if math.gcd(top, bottom) == 1 and max(top, bottom) <= 10 ** 12:
+                    program.append((top, bottom))
+            yield tuple(program)
