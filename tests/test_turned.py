@@ -69,7 +69,8 @@ class MachineOf(unittest.TestCase):
 
     def test_steps_of_programs_of_all_kinds(self):
         fitting = resting = 0
-        for program in list(some_programs()) + list(NOTHING_MUCH) + list(small_programs(100, 2, 401)):
+        of_all_lengths = [SIXTEEN[:many] for many in range(1, 17)]
+        for program in list(some_programs()) + list(NOTHING_MUCH) + list(small_programs(100, 2, 401)) + of_all_lengths:
             machine = self.turned(program)
             for powers in list(small_powers(12, 10, 3, 409)) + list(near_the_bottoms(program)) + [ONE, (99,) * 10]:
                 expected = self.goes(machine, program, powers)[1]

@@ -44,13 +44,15 @@ def programs_of_all_kinds():
                 ((3, 2), (5, 3), (1, 5)), ((1, 29 ** 8),), ((29 ** 8, 1),), ((2 ** 39, 3 ** 25), (3 ** 25, 2 ** 39)),
                 ((2 ** 39, 3 ** 25), (3 ** 24, 2 ** 38)), ((2 ** 38, 3 ** 25), (3 ** 25, 2 ** 39)))
     yield from LEADING_ASTRAY
+    yield from (SIXTEEN[:many] for many in range(1, 17))
+    yield from (((1, 2),) * many + ((1, 1),) for many in range(16))
     yield from stopping_programs()
 
 
 def stopping_programs():
     """Programs of up to sixteen fractions, each of which lessens a hidden weight."""
     chance = random.Random(173)
-    for many in (1, 2, 3, 6, 10, 13, 16):
+    for many in range(1, 17):
         for primes in (1, 2, 4, 10):
             hidden = [chance.choice((0, 1, 2, 7, 60)) for _ in range(primes - 1)] + [1]
             hidden += [0] * (10 - primes)
@@ -314,7 +316,7 @@ class Weighed(unittest.TestCase):
             words[word] = words.get(word, 0) + 1
             sizes.add((word, len(program)))
         self.assertGreater(min(words.values()), 100)
-        for size in ((word, many) for word in ("weights", "balance") for many in (1, 2, 3, 16)):
+        for size in ((word, many) for word in ("weights", "balance") for many in range(1, 17)):
             self.assertIn(size, sizes)
 
     def test_which_of_both(self):
