@@ -1,14 +1,9 @@
-import itertools
 import unittest
 
-from things import (ADDING, MULTIPLYING, ONE, PRIME_TELLING, factored, first_by_number, product, small_powers,
+from things import (ADDING, MULTIPLYING, ONE, PRIME_TELLING, box, factored, first_by_number, product, small_powers,
                     small_programs, told_twice, with_powers)
 from wholefract.before import before, many_before
 from wholefract.steps import after, leap, step
-
-
-def box(sides):
-    return [powers + (0,) * (10 - len(sides)) for powers in itertools.product(*[range(side) for side in sides])]
 
 
 def all_ahead(program, sides):

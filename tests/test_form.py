@@ -19,6 +19,8 @@ UNDERSCORED = {"__init__", "__eq__", "__repr__", "__str__", "__len__"}
 WORDS = re.compile(r"\b(type|typing|typing_extensions|enum|Enum|IntEnum|StrEnum|Flag|IntFlag|Generic|Protocol|ABC|"
                    r"ABCMeta|namedtuple|NamedTuple|TypedDict|TYPE_CHECKING|abstractmethod)\b|"
                    r"dataclass|overload|contextmanager")
+OWN_VALUES = set("count index title find get join lower upper split strip copy add".split())
+PLAIN_ERRORS = {"KeyError", "ZeroDivisionError", "StopIteration"}
 UNUSED = set("""register mro elements open input version_info with_traceback add_note format format_map
     attrgetter breakpoint builtins compile copyright credits delattr dir eval exec exit gc getattr globals hasattr help
     id importlib license locals methodcaller os quit setattr super type vars sys""".split())
@@ -75,6 +77,44 @@ def walked_in(node):
     if isinstance(node, ast.Call) and isinstance(node.func, ast.Attribute) and node.func.attr == "join":
         return node.args if isinstance(node.func.value, ast.Constant) else []
     return []
+
+
+def classes():
+    return [node for _, node in all_nodes() if isinstance(node, ast.ClassDef)]
+
+
+def values_given(kind):
+    return {node.attr for node in ast.walk(kind) if isinstance(node, ast.Attribute) and isinstance(node.ctx, ast.Store)}
+
+
+def is_plain(node, above):
+    """A plain value, or a list, tuple or dict of such and of functions that stand above."""
+    if isinstance(node, (ast.Constant, ast.Name)):
+        return isinstance(node, ast.Constant) or node.id in above
+    if isinstance(node, (ast.List, ast.Tuple)):
+        return all(is_plain(part, above) for part in node.elts)
+    if isinstance(node, ast.Dict):
+        return all(is_plain(part, above) for part in node.keys + node.values)
+    return isinstance(node, ast.UnaryOp) and isinstance(node.operand, ast.Constant)
+
+
+def only_read(tree, name):
+    """Whether a list or dict is nothing but read: by an index, get and its like, in, or a walk."""
+    allowed = []
+    for node in ast.walk(tree):
+        if isinstance(node, ast.Subscript) and isinstance(node.ctx, ast.Load):
+            allowed.append(node.value)
+        if isinstance(node, ast.Call) and isinstance(node.func, ast.Attribute):
+            if node.func.attr in ("get", "items", "keys", "values", "index", "count"):
+                allowed.append(node.func.value)
+        if isinstance(node, ast.Call) and isinstance(node.func, ast.Name) and node.func.id in OWN_NAMES:
+            allowed.extend(node.args)
+        if isinstance(node, ast.Compare):
+            allowed.extend(node.comparators)
+        if isinstance(node, (ast.For, ast.comprehension)):
+            allowed.append(node.iter)
+    read = [node for node in ast.walk(tree) if isinstance(node, ast.Name) and node.id == name]
+    return all(node in allowed for node in read if isinstance(node.ctx, ast.Load))
 
 
 class Form(unittest.TestCase):
@@ -195,3 +235,62 @@ class Form(unittest.TestCase):
             if isinstance(node, ast.Compare) and any(isinstance(op, (ast.Is, ast.IsNot)) for op in node.ops):
                 beside = [part.value for part in [node.left] + node.comparators if isinstance(part, ast.Constant)]
                 self.assertTrue(any(value in (None, True, False) for value in beside), where)
+
+    def test_the_top_of_files(self):
+        for name, _, tree in modules():
+            above, functions = [], []
+            for place, node in enumerate(tree.body):
+                if isinstance(node, ast.Assign):
+                    self.assertTrue(is_plain(node.value, functions), (name, node.lineno))
+                    parts = [part for part in ast.walk(node.value) if isinstance(part, (ast.List, ast.Dict))]
+                    self.assertIn(parts, ([], [node.value]), (name, node.lineno))
+                    if parts:
+                        self.assertTrue(only_read(tree, node.targets[0].id), (name, node.lineno))
+                    self.assertNotIn(node.targets[0].id, above)
+                    above.append(node.targets[0].id)
+                elif isinstance(node, (ast.FunctionDef, ast.ClassDef)):
+                    self.assertNotIn(node.name, above)
+                    above.append(node.name)
+                    functions += [node.name] * isinstance(node, ast.FunctionDef)
+                else:
+                    self.assertIsInstance(node, ast.Expr if place == 0 else ast.ImportFrom, (name, node.lineno))
+
+    def test_methods_and_values(self):
+        methods = [part.name for node in classes() for part in node.body if isinstance(part, ast.FunctionDef)]
+        values = set().union(*map(values_given, classes()))
+        own = {name for kind in (str, int, list, dict, set, bytes, tuple) for name in dir(kind)}
+        self.assertEqual(set(methods) & values, set())
+        self.assertEqual((set(methods) - UNDERSCORED) & (own - METHODS - {"add", "discard"}), set())
+        self.assertEqual(values & (own - OWN_VALUES), set())
+        for node in classes():
+            names = [part.name for part in node.body if isinstance(part, ast.FunctionDef)]
+            self.assertEqual(len(set(names)), len(names), node.name)
+
+    def test_values_are_given_through_a_local(self):
+        for name, _, tree in modules():
+            top = {bound for node in tree.body for bound in bound_names(node)}
+            for node in ast.walk(tree):
+                if isinstance(node, (ast.Attribute, ast.Subscript)) and isinstance(node.ctx, ast.Store):
+                    if isinstance(node.value, ast.Name):
+                        self.assertNotIn(node.value.id, top, (name, node.lineno))
+
+    def test_nothing_is_given_back_when_made(self):
+        for node in classes():
+            for part in node.body:
+                if isinstance(part, ast.FunctionDef) and part.name == "__init__":
+                    self.assertFalse(any(isinstance(inner, ast.Return) for inner in ast.walk(part)), node.name)
+
+    def test_errors_that_are_taken_and_raised(self):
+        own = {node.name for node in classes()}
+        for where, node in all_nodes():
+            if isinstance(node, ast.ExceptHandler):
+                self.assertIsInstance(node.type, ast.Name, where)
+                self.assertIn(node.type.id, own | PLAIN_ERRORS, where)
+            if isinstance(node, ast.Raise):
+                self.assertIsInstance(node.exc, ast.Call, where)
+                self.assertIn(node.exc.func.id, own, where)
+
+    def test_sets_are_not_used(self):
+        for where, node in all_nodes():
+            self.assertNotIsInstance(node, ast.Set, where)
+            self.assertFalse(isinstance(node, ast.Name) and node.id in ("set", "frozenset"), where)

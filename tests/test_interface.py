@@ -17,6 +17,13 @@ FUNCTIONS = {
     "machines": ("is_machine(thing)", "machine_after(machine, stand, many)", "program_of(machine)",
                  "stand_powers(machine, stand, second)"),
     "turned": ("machine_of(program)",),
+    "alike": ("idle(program)", "without_idle(program)", "unlike_at(one, other)"),
+    "named": ("powers_renamed(powers, order)", "renamed(program, order)", "primes_in(program)", "joined(one, other)"),
+}
+CLASSES = {
+    "bench": ("Bench(program)", ("put(name, powers)", "drop(name)", "undo()", "run(name, many)", "names()",
+                                 "powers(name)", "gone(name)")),
+    "desk": ("Desk()", ("say(row)",)),
 }
 
 
@@ -27,3 +34,14 @@ class Interface(unittest.TestCase):
             for function in functions:
                 name = function.partition("(")[0]
                 self.assertEqual(f"{name}{inspect.signature(getattr(held, name))}", function)
+
+    def test_classes_and_their_methods(self):
+        made = {"Bench": (((3, 2),),), "Desk": ()}
+        for module, (form, methods) in CLASSES.items():
+            name = form.partition("(")[0]
+            held = getattr(importlib.import_module(f"wholefract.{module}"), name)
+            self.assertEqual(f"{name}{inspect.signature(held)}", form)
+            one = held(*made[name])
+            for method in methods:
+                word = method.partition("(")[0]
+                self.assertEqual(f"{word}{inspect.signature(getattr(one, word))}", method)

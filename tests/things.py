@@ -1,6 +1,7 @@
 """Things of every kind for the tests, how a refusal is asked for, and steps gone by the numbers themselves."""
 
 import copy
+import itertools
 import math
 import random
 
@@ -80,6 +81,15 @@ def refusal_of(call, *handed):
     return classes[0]
 
 
+def refused_once(call, *handed):
+    """The class of the refusal, or None, asked once: for deeds, which are done where they are not refused."""
+    try:
+        call(*handed)
+    except FractError as refusal:
+        return refusal.__class__
+    return None
+
+
 def refused_with(call, *handed):
     """The refusal itself, asked twice; both are of one class and, where they have steps, of as many."""
     told = []
@@ -124,6 +134,13 @@ def first_by_number(program, number):
     return None
 
 
+def next_by_number(program, powers):
+    """What powers become by a step of their number, or None where it stops."""
+    number = product(powers)
+    place = first_by_number(program, number)
+    return None if place is None else factored(number * program[place][0] // program[place][1])
+
+
 def walk(program, powers, many):
     """All powers from these on, by at most so many steps, and the fractions used: number times fraction, whole."""
     number = product(powers)
@@ -138,21 +155,33 @@ def walk(program, powers, many):
     return reached, used
 
 
+def box(sides):
+    """All powers below these sides, one for each of the first primes."""
+    return [powers + (0,) * (10 - len(sides)) for powers in itertools.product(*[range(side) for side in sides])]
+
+
 def small_programs(many, primes=3, seed=7):
     """Programs of few primes, so that their fractions get in each other's way; the same ones each time."""
     chance = random.Random(seed)
     for _ in range(many):
-        program = []
-        for _ in range(chance.randint(1, 6)):
-            top = bottom = 1
-            for prime in TEN[:primes]:
-                often = chance.choice((0, 0, 0, 1, 1, 2, 3))
-                if chance.random() < 0.5:
-                    top *= prime ** often
-                else:
-                    bottom *= prime ** often
-            program.append((top, bottom))
+        program, length = [], chance.randint(1, 6)
+        while len(program) < length:
+            fraction = small_fraction(chance, primes, (0, 0, 0, 1, 1, 2, 3))
+            if max(fraction) <= 10 ** 12:
+                program.append(fraction)
         yield tuple(program)
+
+
+def small_fraction(chance, primes, often):
+    """Each of the first primes above or below, so often as one of these numbers says."""
+    top = bottom = 1
+    for prime in TEN[:primes]:
+        many = chance.choice(often)
+        if chance.random() < 0.5:
+            top *= prime ** many
+        else:
+            bottom *= prime ** many
+    return (top, bottom)
 
 
 def small_powers(many, primes=3, greatest=9, seed=11):
